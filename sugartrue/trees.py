@@ -1,0 +1,85 @@
+"""Trees during an expansion: names have scopes, and every tree knows the use that introduced it.
+
+None of these objects is changed once it is part of a tree: adding scopes makes new ones.
+"""
+
+SOURCE = -1
+
+
+class Integer:
+    def __init__(self, n, use):
+        self.n = n
+        self.use = use
+
+    def scoped(self, scopes):
+        """The tree with scopes added, which are newer than all scopes in it."""
+        return self
+
+
+class Name:
+    def __init__(self, text, scopes, use):
+        self.text = text
+        self.scopes = scopes
+        self.use = use
+
+    def scoped(self, scopes):
+        """The tree with scopes added, which are newer than all scopes in it."""
+        return Name(self.text, self.scopes + scopes, self.use)
+
+    def identity(self):
+        """What two names have in common that are the same parameter or pattern variable."""
+        return (self.text, self.scopes)
+
+
+class Group:
+    """A list.
+
+    Scopes that are added to it wait in it until its items are asked for, so that adding
+    them takes one step, however large and deep the list is.
+    """
+
+    def __init__(self, held, waiting, use):
+        self.held = held
+        self.waiting = waiting
+        self.use = use
+
+    def scoped(self, scopes):
+        """The tree with scopes added, which are newer than all scopes in it."""
+        return Group(self.held, self.waiting + scopes, self.use)
+
+    def parts(self):
+        """The items, with all scopes that were added; the caller does not change this list."""
+        if self.waiting:
+            # Other groups may share the old list of items, so it is left as it is.
+            self.held = [part.scoped(self.waiting) for part in self.held]
+            self.waiting = ()
+        return self.held
+
+
+def grow(tree):
+    """A tree of a program as a tree without scopes that stands in the source."""
+    top = []
+    tasks = [(tree, top)]
+    while tasks:
+        part, out = tasks.pop()
+        if part[0] == "int":
+            out.append(Integer(part[1], SOURCE))
+        elif part[0] == "name":
+            out.append(Name(part[1], (), SOURCE))
+        else:
+            inner = []
+            out.append(Group(inner, (), SOURCE))
+            tasks.extend([(item, inner) for item in reversed(part[1])])
+    return top[0]
+
+
+def has_more_trees(tree, limit):
+    """Whether there are more trees in a tree than the limit, the tree itself counted."""
+    count = 0
+    tasks = [tree]
+    while tasks and count <= limit:
+        part = tasks.pop()
+        count += 1
+        if isinstance(part, Group):
+            tasks.extend(part.held)
+    return count > limit
