@@ -1,4 +1,4 @@
-"""Bindings of names, and which of them a name refers to."""
+"""Bindings of names, and which of them a name refers to. The marks of a name are its scopes."""
 
 from sugartrue.errors import ScopeError
 
@@ -32,16 +32,16 @@ class Bindings:
         self.tables = {}
 
     def bind(self, name, kind, worth):
-        newest = name.scopes[-1] if name.scopes else NO_SCOPE
+        newest = name.marks[-1] if name.marks else NO_SCOPE
         table = self.tables.setdefault(name.text, {})
-        table.setdefault(newest, []).append(Binding(name.scopes, kind, worth))
+        table.setdefault(newest, []).append(Binding(name.marks, kind, worth))
 
     def candidates(self, name):
         """The bindings of the text of a name whose scopes the name has."""
         table = self.tables.get(name.text, {})
-        held = {scope: True for scope in name.scopes}
+        held = {scope: True for scope in name.marks}
         found = []
-        for newest in (NO_SCOPE, *name.scopes):
+        for newest in (NO_SCOPE, *name.marks):
             for binding in table.get(newest, []):
                 if contains(held, binding.scopes):
                     found.append(binding)

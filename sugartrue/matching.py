@@ -1,7 +1,25 @@
 """Matching the patterns of rules, and making instances of their templates."""
 
-from sugartrue.errors import MatchError
-from sugartrue.trees import Group, Integer, Name
+from sugartrue.errors import LimitError, MatchError
+from sugartrue.trees import Group, Integer, Name, has_more_trees
+
+LARGEST_INSTANCE = 600
+
+
+def result_of_use(rules, group, use, mark):
+    """The tree that a use of a macro with some rules becomes.
+
+    The group holds the items of the use behind the first one; the mark is added to the
+    names that the use introduces.
+    """
+    for rule in rules:
+        found = match_rule(rule, group)
+        if found is not None:
+            tree = instantiate(rule, found, use, mark)
+            if has_more_trees(tree, LARGEST_INSTANCE):
+                raise LimitError("an instance of a template has too many trees")
+            return tree
+    raise MatchError("no rule matches a use of a macro")
 
 
 def match_rule(rule, group):
@@ -48,10 +66,10 @@ def item_matches(entries, tree, slots):
     return tasks
 
 
-def instantiate(rule, found, use, scope):
+def instantiate(rule, found, use, mark):
     """The instance of the template of a rule for what its variables were given.
 
-    The use introduces what stands in the template, and the scope is added to the names.
+    The use introduces what stands in the template, and the mark is added to the names.
     """
     top = []
     # A node, what the variables in it were given, and the list to which the instance goes.
@@ -63,7 +81,7 @@ def instantiate(rule, found, use, scope):
         elif kind == "int":
             out.append(Integer(worth, use))
         elif kind == "name":
-            out.append(Name(worth.text, worth.scopes + (scope,), use))
+            out.append(Name(worth.text, worth.marks + (mark,), use))
         else:
             inner = []
             out.append(Group(inner, (), use))

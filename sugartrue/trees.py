@@ -1,6 +1,8 @@
-"""Trees during an expansion: names have scopes, and every tree knows the use that introduced it.
+"""Trees during an expansion: names have marks, and every tree knows the use that introduced it.
 
-None of these objects is changed once it is part of a tree: adding scopes makes new ones.
+The marks of a name are a tuple of integers in ascending order, which tell it apart from
+other names with the same text. For `expand` they are scopes.
+None of these objects is changed once it is part of a tree: adding marks makes new ones.
 """
 
 SOURCE = -1
@@ -11,30 +13,30 @@ class Integer:
         self.n = n
         self.use = use
 
-    def scoped(self, scopes):
-        """The tree with scopes added, which are newer than all scopes in it."""
+    def marked(self, marks):
+        """The tree with marks added, which are newer than all marks in it."""
         return self
 
 
 class Name:
-    def __init__(self, text, scopes, use):
+    def __init__(self, text, marks, use):
         self.text = text
-        self.scopes = scopes
+        self.marks = marks
         self.use = use
 
-    def scoped(self, scopes):
-        """The tree with scopes added, which are newer than all scopes in it."""
-        return Name(self.text, self.scopes + scopes, self.use)
+    def marked(self, marks):
+        """The tree with marks added, which are newer than all marks in it."""
+        return Name(self.text, self.marks + marks, self.use)
 
     def identity(self):
         """What two names have in common that are the same parameter or pattern variable."""
-        return (self.text, self.scopes)
+        return (self.text, self.marks)
 
 
 class Group:
     """A list.
 
-    Scopes that are added to it wait in it until its items are asked for, so that adding
+    Marks that are added to it wait in it until its items are asked for, so that adding
     them takes one step, however large and deep the list is.
     """
 
@@ -43,21 +45,21 @@ class Group:
         self.waiting = waiting
         self.use = use
 
-    def scoped(self, scopes):
-        """The tree with scopes added, which are newer than all scopes in it."""
-        return Group(self.held, self.waiting + scopes, self.use)
+    def marked(self, marks):
+        """The tree with marks added, which are newer than all marks in it."""
+        return Group(self.held, self.waiting + marks, self.use)
 
     def parts(self):
-        """The items, with all scopes that were added; the caller does not change this list."""
+        """The items, with all marks that were added; the caller does not change this list."""
         if self.waiting:
             # Other groups may share the old list of items, so it is left as it is.
-            self.held = [part.scoped(self.waiting) for part in self.held]
+            self.held = [part.marked(self.waiting) for part in self.held]
             self.waiting = ()
         return self.held
 
 
 def grow(tree):
-    """A tree of a program as a tree without scopes that stands in the source."""
+    """A tree of a program as a tree without marks that stands in the source."""
     top = []
     tasks = [(tree, top)]
     while tasks:

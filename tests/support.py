@@ -2,10 +2,13 @@
 
 import unittest
 
+from build import NOWHERE, without_origins
+from sugartrue.apart import expand_apart
 from sugartrue.expanding import expand
 from sugartrue.reading import read
+from sugartrue.terms import alike
 
-NOWHERE = (-1, (), -1)
+EXPANDERS = (expand, expand_apart)
 
 
 def expanded(text):
@@ -31,6 +34,8 @@ def shape_of(term):
         return f"(let {term[1]} {shape_of(term[2])} {shape_of(term[3])})"
     if kind == "if":
         return "(if " + " ".join(shape_of(part) for part in term[1:4]) + ")"
+    if kind == "pair":
+        return f"<{shape_of(term[1])} {shape_of(term[2])}>"
     return "(" + " ".join(shape_of(part) for part in [term[1], *term[2]]) + ")"
 
 
@@ -38,26 +43,51 @@ def shape(text):
     return shape_of(expanded(text))
 
 
-def parts_of(term):
-    """The term and all terms in it, from the outside in and from left to right."""
-    found = [term]
-    for part in term[1:-1]:
-        if isinstance(part, tuple):
-            found += parts_of(part)
-        elif isinstance(part, list):
-            for item in part:
-                if isinstance(item, tuple):
-                    found += parts_of(item)
+def lists_in(value):
+    """All lists in a value, also those in dicts and in other lists."""
+    found = []
+    if isinstance(value, dict):
+        value = list(value.values())
+    if isinstance(value, (list, tuple)):
+        if isinstance(value, list):
+            found.append(value)
+        for item in value:
+            found += lists_in(item)
     return found
+
+
+def spoil(value):
+    """Changes all lists in a value."""
+    for part in lists_in(value):
+        part.append("spoiled")
 
 
 class Case(unittest.TestCase):
     def gives(self, text, expected):
+        """Both expanders give a term of a shape."""
         with self.subTest(text=text):
-            self.assertEqual(shape(text), expected)
+            term = expanded(text)
+            self.assertEqual(shape_of(term), expected)
+            self.agrees(read(text), term)
+
+    def agrees(self, program, term):
+        """The second expander gives the term of the first one, but with no origins."""
+        apart = expand_apart(program)
+        self.assertEqual(apart, without_origins(term))
+        self.assertIs(alike(term, apart), True)
+        self.assertIs(alike(apart, term), True)
 
     def fails(self, kind, text):
-        with self.subTest(text=text):
-            with self.assertRaises(kind) as caught:
-                expanded(text)
-            self.assertIs(type(caught.exception), kind)
+        """Both expanders raise an error of a class."""
+        for expander in EXPANDERS:
+            with self.subTest(text=text, expander=expander.__name__):
+                with self.assertRaises(kind) as caught:
+                    expander(read(text))
+                self.assertIs(type(caught.exception), kind)
+
+    def shares_nothing(self, value, *others):
+        """No list of a value is a list of another one, nor twice in the value."""
+        held = [id(part) for part in lists_in(list(others))]
+        own = [id(part) for part in lists_in(value)]
+        self.assertFalse([number for number in own if number in held])
+        self.assertEqual(len(set(own)), len(own))

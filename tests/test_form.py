@@ -11,6 +11,9 @@ LISTED = {
     "errors": ("SugarError", "TextError", "FormError", "MatchError", "ScopeError", "LimitError", "StuckError"),
     "reading": ("read", "write", "write_program"),
     "expanding": ("expand",),
+    "apart": ("expand_apart",),
+    "terms": ("alike", "put"),
+    "machine": ("step", "run"),
 }
 
 

@@ -1,8 +1,8 @@
 import unittest
 
 from sugartrue.errors import FormError, LimitError, MatchError, ScopeError
-from sugartrue.expanding import expand
-from support import Case, expanded
+from sugartrue.reading import read
+from support import EXPANDERS, Case, expanded
 
 # (go E 0 0 0) is E after a use for each 0 and one more.
 GO = "(macro go ((m e) e) ((m e 0 r ...) (go e r ...)))"
@@ -87,7 +87,9 @@ class Depth(Case):
                 text = form.replace("E", text)
             program = f"{GO} {text}"
             with self.subTest(form=form):
-                self.assertIn("7", repr(expanded(program.replace("E", going("7", 50)))))
+                term = expanded(program.replace("E", going("7", 50)))
+                self.assertIn("7", repr(term))
+                self.agrees(read(program.replace("E", going("7", 50))), term)
             self.fails(LimitError, program.replace("E", going("7", 51)))
 
     def test_names_and_rules_of_a_form_are_no_expressions(self):
@@ -100,13 +102,14 @@ class Depth(Case):
         tree = ("int", 7)
         for _ in range(60):
             tree = ("list", [tree])
-        term = expand([tree])
-        for _ in range(60):
-            self.assertEqual(term[0], "app")
-            term = term[1]
-        self.assertEqual(term[0], "int")
-        with self.assertRaises(LimitError):
-            expand([("list", [tree])])
+        for expander in EXPANDERS:
+            term = expander([tree])
+            for _ in range(60):
+                self.assertEqual(term[0], "app")
+                term = term[1]
+            self.assertEqual(term[0], "int")
+            with self.assertRaises(LimitError):
+                expander([("list", [tree])])
 
     def test_deep_trees_that_are_no_expressions(self):
         self.gives("(macro m ((m _) 1)) (m " + "(" * 29 + ")" * 29 + ")", "1")
@@ -116,7 +119,8 @@ class Depth(Case):
         program = [("list", [("name", "with", 0), ("name", "m", 1), ("list", [("list", [
             ("list", [("name", "m", 2), ("name", "e", 3)]), ("int", 5)])]),
             ("list", [("name", "m", 4), tree])])]
-        self.assertEqual(expand(program)[:2], ("int", 5))
+        for expander in EXPANDERS:
+            self.assertEqual(expander(program)[:2], ("int", 5))
 
     def test_recursion_without_an_end(self):
         self.fails(LimitError, "(macro m ((m) (m))) (m)")

@@ -1,8 +1,7 @@
 import unittest
 
 from sugartrue.errors import FormError, ScopeError
-from sugartrue.expanding import expand
-from support import Case
+from support import EXPANDERS, Case
 
 # Each form as an expression, and its shape if its first variable has the number in braces.
 FORMS = {
@@ -29,8 +28,9 @@ class Programs(Case):
 
     def test_no_tree(self):
         self.fails(FormError, "")
-        with self.assertRaises(FormError):
-            expand([])
+        for expander in EXPANDERS:
+            with self.assertRaises(FormError):
+                expander([])
 
     def test_trees_before_the_last_one_are_definitions(self):
         for tree in ("5", "x", "macro", "()", "(1)", "(+ 1 2)", "((macro) m ((m) 1))", "(m macro ((m) 1))",

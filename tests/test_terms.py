@@ -1,14 +1,17 @@
 import unittest
 
-from support import NOWHERE, Case, expanded, parts_of
+from build import NOWHERE, parts_of
+from sugartrue.reading import read
+from support import Case, expanded
 
 
 class Terms(Case):
-    """Point 21."""
+    """Point 21 without alike; the second expander gives the same terms but for the origins."""
 
     def is_term(self, text, term):
         with self.subTest(text=text):
             self.assertEqual(expanded(text), term)
+            self.agrees(read(text), term)
 
     def test_the_example(self):
         self.is_term("(macro twice ((m e) (let t e (+ t t)))) (let t 5 (twice t))", (
