@@ -119,7 +119,8 @@ class ApartExpander:
         use = len(self.remembered)
         check_uses(use + 1)
         self.remembered.append(macro.environment)
-        return result_of_use(macro.rules, Group(items, (), SOURCE), use, use)
+        _, tree = result_of_use(macro.rules, Group(items, (), SOURCE), use, use)
+        return tree
 
     def form(self, text, parts, depth, environment):
         """The term of a form other than `with`, whose expressions are nested so deep."""

@@ -7,13 +7,14 @@ NO_SCOPE = -1
 
 
 class Binding:
-    """What a name with some scopes means.
+    """What a name with an index and some scopes means.
 
     The kind is "form" or "primitive", with the name as its worth, "variable", with its
-    number, or "macro", with the list of its rules.
+    number, or "macro", with a Macro.
     """
 
-    def __init__(self, scopes, kind, worth):
+    def __init__(self, index, scopes, kind, worth):
+        self.index = index
         self.scopes = scopes
         self.kind = kind
         self.worth = worth
@@ -34,7 +35,7 @@ class Bindings:
     def bind(self, name, kind, worth):
         newest = name.marks[-1] if name.marks else NO_SCOPE
         table = self.tables.setdefault(name.text, {})
-        table.setdefault(newest, []).append(Binding(name.marks, kind, worth))
+        table.setdefault(newest, []).append(Binding(name.index, name.marks, kind, worth))
 
     def candidates(self, name):
         """The bindings of the text of a name whose scopes the name has."""

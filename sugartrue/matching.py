@@ -7,7 +7,7 @@ LARGEST_INSTANCE = 600
 
 
 def result_of_use(rules, group, use, mark):
-    """The tree that a use of a macro with some rules becomes.
+    """The rule that expands a use of a macro with some rules, and the tree that the use becomes.
 
     The group holds the items of the use behind the first one; the mark is added to the
     names that the use introduces.
@@ -18,7 +18,7 @@ def result_of_use(rules, group, use, mark):
             tree = instantiate(rule, found, use, mark)
             if has_more_trees(tree, LARGEST_INSTANCE):
                 raise LimitError("an instance of a template has too many trees")
-            return tree
+            return rule, tree
     raise MatchError("no rule matches a use of a macro")
 
 
@@ -28,7 +28,7 @@ def match_rule(rule, group):
     This is a dict from the numbers of the variables to trees, or to lists of such for
     variables that are repeated. If the pattern does not match, it is None.
     """
-    found = {number: [] for number in range(rule.variables)}
+    found = {number: [] for number in range(len(rule.occurrences))}
     # A node, the tree for it, and the lists to which its variables add what they get.
     tasks = [(rule.pattern, group, found)]
     while tasks:
@@ -81,7 +81,7 @@ def instantiate(rule, found, use, mark):
         elif kind == "int":
             out.append(Integer(worth, use))
         elif kind == "name":
-            out.append(Name(worth.text, worth.marks + (mark,), use))
+            out.append(Name(worth.text, worth.marks + (mark,), use, worth.index))
         else:
             inner = []
             out.append(Group(inner, (), use))

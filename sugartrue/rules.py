@@ -13,13 +13,14 @@ class Rule:
     Its pattern, without the first item, and its template are nodes: ("int", n),
     ("any", None), ("variable", number), ("name", name) and ("list", entries). An entry is
     a pair of a node and, if the node is repeated, the list of the variables in it,
-    otherwise None. The variables are numbered from 0 on.
+    otherwise None. The variables are numbered from 0 on; the occurrences are, for each of
+    them, the list of the indexes of its names, the one in the pattern first.
     """
 
-    def __init__(self, pattern, template, variables):
+    def __init__(self, pattern, template, occurrences):
         self.pattern = pattern
         self.template = template
-        self.variables = variables
+        self.occurrences = occurrences
 
 
 def with_repetitions(parts):
@@ -49,6 +50,7 @@ class RuleReader:
     def __init__(self):
         self.numbers = {}
         self.depths = []
+        self.occurrences = []
         # The variables in each repeated item of the rule.
         self.insides = []
 
@@ -104,6 +106,7 @@ class RuleReader:
         number = len(self.depths)
         self.numbers[name.identity()] = number
         self.depths.append(depth)
+        self.occurrences.append([name.index])
         return number
 
     def variable_used(self, name, depth):
@@ -111,8 +114,11 @@ class RuleReader:
         if name.text in (ANYTHING, DOTS):
             raise FormError(f"{name.text} has no use here in a template")
         number = self.numbers.get(name.identity())
-        if number is not None and self.depths[number] != depth:
+        if number is None:
+            return None
+        if self.depths[number] != depth:
             raise FormError(f"{name.text} is not in as many repeated items as in the pattern")
+        self.occurrences[number].append(name.index)
         return number
 
 
@@ -129,4 +135,4 @@ def read_rule(tree):
     template = reader.read_side(parts[1], False)
     if not all(reader.insides):
         raise FormError("a repeated item contains no pattern variable")
-    return Rule(pattern, template, len(reader.depths))
+    return Rule(pattern, template, reader.occurrences)

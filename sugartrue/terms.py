@@ -48,6 +48,37 @@ def rebuilt(term, inner):
     return (kind, *inner, origin)
 
 
+def folded(term, make):
+    """What a function makes of a term and of the list of what it made of the terms directly in it."""
+    done = []
+    # A term, and whether the terms in it are done: then they are the last ones of those that are done.
+    tasks = [(term, False)]
+    while tasks:
+        part, finished = tasks.pop()
+        inner = inner_terms(part)
+        if finished:
+            start = len(done) - len(inner)
+            made = done[start:]
+            del done[start:]
+            done.append(make(part, made))
+        else:
+            tasks.append((part, True))
+            tasks.extend([(each, False) for each in reversed(inner)])
+    return done[0]
+
+
+def without_pairs(term):
+    """A term with applications of `pair` in place of its pairs."""
+    return folded(term, application_of_pair)
+
+
+def application_of_pair(term, inner):
+    """A term with these terms directly in it; a pair becomes an application."""
+    if term[0] == "pair":
+        return ("app", ("prim", "pair", NOWHERE), inner, term[-1])
+    return rebuilt(term, inner)
+
+
 def alike(first, second):
     """Whether two terms are equal but for their origins and the numbers of their variables."""
     bindings = 0

@@ -6,6 +6,8 @@ None of these objects is changed once it is part of a tree: adding marks makes n
 """
 
 SOURCE = -1
+# The index of names that do not stand in the text of a program.
+NO_INDEX = -1
 
 
 class Integer:
@@ -19,14 +21,17 @@ class Integer:
 
 
 class Name:
-    def __init__(self, text, marks, use):
+    """A copy of the name that has an index in the program."""
+
+    def __init__(self, text, marks, use, index):
         self.text = text
         self.marks = marks
         self.use = use
+        self.index = index
 
     def marked(self, marks):
         """The tree with marks added, which are newer than all marks in it."""
-        return Name(self.text, self.marks + marks, self.use)
+        return Name(self.text, self.marks + marks, self.use, self.index)
 
     def identity(self):
         """What two names have in common that are the same parameter or pattern variable."""
@@ -67,11 +72,28 @@ def grow(tree):
         if part[0] == "int":
             out.append(Integer(part[1], SOURCE))
         elif part[0] == "name":
-            out.append(Name(part[1], (), SOURCE))
+            out.append(Name(part[1], (), SOURCE, part[2]))
         else:
             inner = []
             out.append(Group(inner, (), SOURCE))
             tasks.extend([(item, inner) for item in reversed(part[1])])
+    return top[0]
+
+
+def plain(tree):
+    """A tree in the form of the trees of a program."""
+    top = []
+    tasks = [(tree, top)]
+    while tasks:
+        part, out = tasks.pop()
+        if isinstance(part, Integer):
+            out.append(("int", part.n))
+        elif isinstance(part, Name):
+            out.append(("name", part.text, part.index))
+        else:
+            inner = []
+            out.append(("list", inner))
+            tasks.extend([(item, inner) for item in reversed(part.parts())])
     return top[0]
 
 

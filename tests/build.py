@@ -68,6 +68,19 @@ def marked(term, start=0):
     return with_origins(term, origin)
 
 
+def pairs_applied(term):
+    """A term with applications of `pair` in place of its pairs."""
+    changed = []
+    for part in term[1:]:
+        if isinstance(part, tuple) and part and isinstance(part[0], str):
+            changed.append(pairs_applied(part))
+        elif isinstance(part, list):
+            changed.append([pairs_applied(item) if isinstance(item, tuple) else item for item in part])
+        else:
+            changed.append(part)
+    return app("pair", *changed[:2]) if term[0] == "pair" else (term[0], *changed)
+
+
 def parts_of(term):
     """The term and all terms in it, from the outside in and from left to right."""
     found = [term]

@@ -2,10 +2,12 @@
 
 import unittest
 
-from build import NOWHERE, without_origins
+from build import NOWHERE, pairs_applied, without_origins
 from sugartrue.apart import expand_apart
 from sugartrue.expanding import expand
-from sugartrue.reading import read
+from sugartrue.machine import run
+from sugartrue.reading import read, write_program
+from sugartrue.showing import show
 from sugartrue.terms import alike
 
 EXPANDERS = (expand, expand_apart)
@@ -56,6 +58,17 @@ def lists_in(value):
     return found
 
 
+def names_in(program):
+    """All names in a program, from left to right."""
+    found = []
+    for tree in program:
+        if tree[0] == "name":
+            found.append(tree)
+        elif tree[0] == "list":
+            found += names_in(tree[1])
+    return found
+
+
 def spoil(value):
     """Changes all lists in a value."""
     for part in lists_in(value):
@@ -91,3 +104,37 @@ class Case(unittest.TestCase):
         own = [id(part) for part in lists_in(value)]
         self.assertFalse([number for number in own if number in held])
         self.assertEqual(len(set(own)), len(own))
+
+
+class ShowCase(unittest.TestCase):
+    def shown(self, text, limit=200):
+        """The shown states of a run: a dict from their indexes to their expressions; and how many states there are.
+
+        Each of them is the definitions and an expression that means what the state means.
+        """
+        program = read(text)
+        states, _ = run(expand(program), limit)
+        definitions = write_program(program[:-1])
+        found = show(program, limit)
+        indexes = [at for at, _ in found]
+        self.assertEqual(indexes, sorted(set(indexes)))
+        expressions = {}
+        for at, shown in found:
+            self.assertTrue(shown.startswith(definitions))
+            self.assertLessEqual(len(shown), 4000)
+            again = read(shown)
+            self.assertEqual(write_program(again), shown)
+            self.assertEqual(len(again), len(program))
+            self.assertIs(alike(expand(again), pairs_applied(states[at])), True)
+            expressions[at] = shown[len(definitions):-1]
+        return expressions, len(states)
+
+    def shows(self, text, *expected):
+        """A run has as many states, and those are shown so; None stands for a state that is not shown."""
+        with self.subTest(text=text):
+            expressions, count = self.shown(text)
+            self.assertEqual([expressions.get(at) for at in range(count)], list(expected))
+
+    def shows_after(self, definitions, *expected):
+        """The same for a program of definitions and the first expression that is expected."""
+        self.shows(f"{definitions} {expected[0]}", *expected)

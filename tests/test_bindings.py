@@ -4,11 +4,11 @@ import unittest
 
 from sugartrue.bindings import Bindings
 from sugartrue.errors import ScopeError
-from sugartrue.trees import SOURCE, Name
+from sugartrue.trees import NO_INDEX, SOURCE, Name
 
 
 def name(text, *scopes):
-    return Name(text, scopes, SOURCE)
+    return Name(text, scopes, SOURCE, NO_INDEX)
 
 
 class Lookup(unittest.TestCase):

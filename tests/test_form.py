@@ -14,6 +14,9 @@ LISTED = {
     "apart": ("expand_apart",),
     "terms": ("alike", "put"),
     "machine": ("step", "run"),
+    "naming": ("classes", "rename"),
+    "showing": ("show",),
+    "play": ("report",),
 }
 
 
